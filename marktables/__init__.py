@@ -1,0 +1,1 @@
+"""Marktables: which queries over marked tables can be told apart, and by which measure."""
