@@ -104,6 +104,23 @@ def check_alike(ones, others):
         raise OtherPlaces("a table has different numbers of places")
 
 
+def moved_head(query, values):
+    """The tuple that the head becomes with values[k], a name or an integer, in place of variable k."""
+    new = dict(zip(query.variables, values))
+    return _replaced(query.head, new)
+
+
+def moved_atoms(query, values):
+    """The list of what the atoms, in their order, become with values[k] in place of variable k."""
+    new = dict(zip(query.variables, values))
+    return [(table, _replaced(variables, new)) for table, variables in query.atoms]
+
+
+def different_atoms(query):
+    """The ascending list of the atoms, each once."""
+    return sorted(set(query.atoms))
+
+
 def first_clash(queries):
     """The least k such that an earlier query has another number of places for a table of query k, or None."""
     known = {}
@@ -151,9 +168,7 @@ def _different_variables(atoms):
 
 def _renamed(query, names):
     """The head and the ascending tuple of the atoms with names[k] in place of variable k."""
-    new = dict(zip(query.variables, names))
-    atoms = [(table, _replaced(variables, new)) for table, variables in query.atoms]
-    return _replaced(query.head, new), tuple(sorted(atoms))
+    return moved_head(query, names), tuple(sorted(moved_atoms(query, names)))
 
 
 def _replaced(variables, new):

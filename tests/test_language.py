@@ -1,7 +1,10 @@
 """What a script can see of the rules for the files of the package, and of the interface."""
 
 import ast
+import builtins
 import unittest
+from importlib import import_module
+from inspect import isgeneratorfunction, signature
 from pathlib import Path
 
 PACKAGE = Path(__file__).resolve().parent.parent / "marktables"
@@ -17,7 +20,35 @@ INTERFACE = {
         "Union": ["__init__", "__eq__", "__len__", "__or__", "__str__", "queries", "read"],
         "normal_union": None, "same_lists": None,
     },
+    "maps": {"maps": None, "map_error": None, "counts": None, "kind": None, "first_map": None, "composed": None},
+    "polynomials": {
+        "Polynomial": ["__init__", "__add__", "__sub__", "__mul__", "__call__", "__eq__", "__str__", "terms"],
+    },
+    "tables": {
+        "Tables": ["__init__", "__contains__", "__eq__", "__len__", "rows", "names"],
+        "ways": None, "answers": None, "polynomial_answers": None,
+    },
+    "reading": {"after": None, "reasons": None, "least_deletions": None, "difference": None},
 }
+# The arguments as the interface names them.
+ARGUMENTS = {
+    "queries": {"Query": "head atoms", "normal": "query", "isomorphism": "one other"},
+    "unions": {"normal_union": "union", "same_lists": "one other"},
+    "maps": {
+        "maps": "source goal", "map_error": "source goal value", "counts": "source goal value",
+        "kind": "source goal value", "first_map": "source goal wanted", "composed": "source middle goal first second",
+    },
+    "polynomials": {"Polynomial": "terms"},
+    "tables": {
+        "Tables": "rows", "ways": "tables query", "answers": "tables union measure marks",
+        "polynomial_answers": "tables union",
+    },
+    "reading": {
+        "after": "polynomial names", "reasons": "polynomial", "least_deletions": "polynomial",
+        "difference": "tables union names rows",
+    },
+}
+GENERATORS = ["maps", "ways"]
 LIBRARY = {
     "heapq": ["heappush", "heappop", "heapify", "heapreplace", "heappushpop"],
     "math": ["gcd", "lcm", "isqrt", "comb", "perm", "factorial"],
@@ -25,7 +56,14 @@ LIBRARY = {
         "product", "combinations", "permutations", "chain", "accumulate", "pairwise", "islice", "zip_longest"],
     "collections": ["defaultdict", "deque"],
 }
-NOT_USED = (ast.AsyncFunctionDef, ast.Await, ast.Import, ast.Div, ast.MatMult, ast.TryStar)
+NOT_USED = (
+    ast.AsyncFunctionDef, ast.Await, ast.Import, ast.Div, ast.MatMult, ast.TryStar, ast.Global, ast.GeneratorExp)
+NO_NAMES = ["open", "input", "print", "id", "hash", "filter", "vars", "eval", "exec"]
+# Methods of builtin values, and the methods of measures.
+METHODS = """append clear copy count endswith extend find get index insert isalnum isalpha isdigit islower isspace
+    isupper items join keys ljust lower lstrip partition pop remove replace reverse rfind rjust rpartition rsplit rstrip
+    setdefault split splitlines startswith strip update upper values zfill bit_length isascii add discard
+    zero one plus times at_most is_mark named""".split()
 
 
 def tree_of(path):
@@ -78,7 +116,54 @@ class Files(unittest.TestCase):
                 if isinstance(node, ast.Constant):
                     self.assertNotIsInstance(node.value, (float, complex), path.name)
                 if isinstance(node, ast.Name):
-                    self.assertNotIn(node.id, ["open", "input", "print", "id", "hash", "filter", "vars", "eval", "exec"])
+                    self.assertNotIn(node.id, NO_NAMES, path.name)
+
+
+    def test_bound_names_are_no_builtins(self):
+        for path in FILES:
+            bound = []
+            for node in ast.walk(tree_of(path)):
+                if isinstance(node, ast.arg):
+                    bound.append(node.arg)
+                if isinstance(node, ast.Name) and isinstance(node.ctx, ast.Store):
+                    bound.append(node.id)
+            bound.extend(defined(tree_of(path)))
+            self.assertEqual([name for name in bound if hasattr(builtins, name) or name == "sys"], [], path.name)
+
+    def test_parameters_and_variables_are_not_named_like_imports_and_classes(self):
+        for path in FILES:
+            tree = tree_of(path)
+            taken = {alias.name for node in tree.body if isinstance(node, ast.ImportFrom) for alias in node.names}
+            taken.update(name for name, node in defined(tree).items() if isinstance(node, ast.ClassDef))
+            for node in ast.walk(tree):
+                if isinstance(node, ast.arg):
+                    self.assertNotIn(node.arg, taken, path.name)
+                if isinstance(node, ast.Name) and isinstance(node.ctx, ast.Store):
+                    self.assertNotIn(node.id, taken, path.name)
+
+    def test_methods(self):
+        own = {node.name for path in FILES for kind in ast.walk(tree_of(path)) if isinstance(kind, ast.ClassDef)
+               for node in kind.body if isinstance(node, ast.FunctionDef)}
+        for path in FILES:
+            for node in ast.walk(tree_of(path)):
+                if isinstance(node, ast.Call) and isinstance(node.func, ast.Attribute):
+                    self.assertIn(node.func.attr, {*METHODS, *own}, path.name)
+
+    def test_sets_stand_in_their_places(self):
+        for path in FILES:
+            tree = tree_of(path)
+            right = set()
+            for node in ast.walk(tree):
+                if isinstance(node, ast.Call) and isinstance(node.func, ast.Name) and node.func.id in ("sorted", "len"):
+                    right.update(id(part) for part in node.args)
+                if isinstance(node, ast.Assign) and isinstance(node.targets[0], ast.Name):
+                    right.add(id(node.value))
+                if isinstance(node, ast.Compare):
+                    right.update(id(part) for part in [node.left, *node.comparators])
+            for node in ast.walk(tree):
+                called = isinstance(node, ast.Call) and isinstance(node.func, ast.Name) and node.func.id == "set"
+                if called or isinstance(node, (ast.Set, ast.SetComp)):
+                    self.assertIn(id(node), right, f"{path.name} {node.lineno}")
 
 
 class Interface(unittest.TestCase):
@@ -92,6 +177,21 @@ class Interface(unittest.TestCase):
                 else:
                     self.assertLessEqual(set(methods), {node.name for node in found[name].body
                                                         if isinstance(node, ast.FunctionDef)})
+
+    def test_arguments(self):
+        for file, names in ARGUMENTS.items():
+            module = import_module(f"marktables.{file}")
+            for name, arguments in names.items():
+                self.assertEqual(list(signature(getattr(module, name)).parameters), arguments.split(), name)
+                self.assertEqual(getattr(module, name).__module__, f"marktables.{file}")
+        call = import_module("marktables.polynomials").Polynomial.__call__
+        self.assertEqual(list(signature(call).parameters), ["self", "measure", "marks"])
+
+    def test_generators(self):
+        for file in INTERFACE:
+            module = import_module(f"marktables.{file}")
+            found = [name for name in INTERFACE[file] if isgeneratorfunction(getattr(module, name))]
+            self.assertEqual(found, [name for name in GENERATORS if name in INTERFACE[file]])
 
 
 if __name__ == "__main__":

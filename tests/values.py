@@ -1,7 +1,10 @@
 """Values of every kind that may be passed where an error is described, for several tests."""
 
+from marktables.polynomials import Polynomial
 from marktables.queries import Query
+from marktables.tables import Tables
 from marktables.unions import Union
+from small_measures import SmallNumbers
 
 
 def nested(depth):
@@ -14,7 +17,10 @@ def nested(depth):
 def no_names():
     """Values of every kind, none of which is a name."""
     query = Query(("x",), [("edge", ("x", "y"))])
+    tables = Tables([("r", "edge", (1, 2))])
+    polynomial = Polynomial([(("r",), 2)])
     return [
         None, True, False, 0, 1, -3, 10 ** 999, "", "abcdefghi", "A", "aB", "a1", "a b", " a", "a ", "a\n", "_", "-",
         (), ("x",), [], ["x"], {}, {"x": 1}, query, Union(query), nested(50), [("x",)] * 2000,
+        tables, Tables([]), polynomial, Polynomial([]), SmallNumbers(), [tables, {"x": [polynomial, query]}],
     ]
