@@ -32,7 +32,7 @@ def map_error(source, goal, value):
 def counts(source, goal, value):
     """For each different atom of the goal, in ascending order, how many atoms of the source become it."""
     _check_map(source, goal, value)
-    return _counts_of_map(source, goal, value)
+    return atom_counts(source, goal, value)
 
 
 def kind(source, goal, value):
@@ -61,6 +61,12 @@ def composed(source, middle, goal, first, second):
     return tuple([last[variable] for variable in first])
 
 
+def atom_counts(source, goal, value):
+    """What counts returns, for a value that is known to be a map."""
+    made = moved_atoms(source, value)
+    return tuple([made.count(atom) for atom in different_atoms(goal)])
+
+
 def _check_map(source, goal, value):
     """Raises InvalidMap if the value is not a map from the source to the goal."""
     if map_error(source, goal, value) is not None:
@@ -74,15 +80,9 @@ def _leads_to_variables(source, goal, value):
     return all([entry in goal.variables for entry in value])
 
 
-def _counts_of_map(source, goal, value):
-    """What counts returns, for a value that is known to be a map."""
-    made = moved_atoms(source, value)
-    return tuple([made.count(atom) for atom in different_atoms(goal)])
-
-
 def _rank_of_map(source, goal, value):
     """The place in KINDS of the kind of a value that is known to be a map."""
-    met = _counts_of_map(source, goal, value)
+    met = atom_counts(source, goal, value)
     if met == tuple([goal.atoms.count(atom) for atom in different_atoms(goal)]):
         return KINDS.index("exact")
     if min(met) >= 1:

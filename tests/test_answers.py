@@ -3,12 +3,14 @@ from itertools import product
 from random import Random
 
 from marktables.errors import InvalidMarks
+from marktables.measures import (
+    Bags, Cheapest, Counted, Dearest, Holds, Numbers, Polynomials, Which, Why)
 from marktables.polynomials import Polynomial
 from marktables.queries import Query
 from marktables.tables import Tables, answers, polynomial_answers, ways
 from marktables.unions import Union
-from small_measures import (
-    MARKS, SmallCheapest, SmallHolds, SmallNumbers, SmallPolynomials, SmallWhich, SmallWhy)
+from measure_marks import MARKS
+from small_measures import SmallNumbers
 from values import no_names
 
 TABLES = Tables([("r", "edge", (1, 2)), ("s", "edge", (2, 2)), ("t", "edge", (3, 2))])
@@ -94,7 +96,7 @@ class Sums(unittest.TestCase):
             for text in UNIONS:
                 union = Union.read(text)
                 marks = {name: (((name,), 1),) for name in tables.names}
-                told = answers_told(tables, union, SmallPolynomials(), marks)
+                told = answers_told(tables, union, Polynomials(), marks)
                 found = polynomial_answers(tables, union)
                 self.assertEqual(list(found), sorted(told))
                 self.assertIs(type(found), dict)
@@ -105,45 +107,45 @@ class Sums(unittest.TestCase):
     def test_told(self):
         union = Union.read("x <- edge x y, edge x y, edge z y")
         marks = {"r": 2, "s": 3, "t": 5}
-        self.assertEqual(answers(TABLES, union, SmallNumbers(), marks), {(1,): 40, (2,): 90, (3,): 250})
+        self.assertEqual(answers(TABLES, union, Numbers(), marks), {(1,): 40, (2,): 90, (3,): 250})
         self.assertEqual(
             {head: str(each) for head, each in polynomial_answers(TABLES, union).items()},
             {(1,): "r r r + r r s + r r t", (2,): "r s s + s s s + s s t", (3,): "r t t + s t t + t t t"})
 
     def test_a_query_without_a_head(self):
-        self.assertEqual(answers(TABLES, Union.read("<- edge x y"), SmallNumbers(), {"r": 2, "s": 3, "t": 5}), {(): 10})
+        self.assertEqual(answers(TABLES, Union.read("<- edge x y"), Numbers(), {"r": 2, "s": 3, "t": 5}), {(): 10})
         self.assertEqual(str(polynomial_answers(TABLES, Union.read("<- edge x y"))[()]), "r + s + t")
 
     def test_a_query_that_stands_in_the_union_twice(self):
         query = Query.read("x <- edge x y")
         marks = {"r": 1, "s": 2, "t": 3}
-        self.assertEqual(answers(TABLES, Union(query), SmallNumbers(), marks), {(1,): 1, (2,): 2, (3,): 3})
-        self.assertEqual(answers(TABLES, Union(query, query), SmallNumbers(), marks), {(1,): 2, (2,): 4, (3,): 6})
+        self.assertEqual(answers(TABLES, Union(query), Numbers(), marks), {(1,): 1, (2,): 2, (3,): 3})
+        self.assertEqual(answers(TABLES, Union(query, query), Numbers(), marks), {(1,): 2, (2,): 4, (3,): 6})
         self.assertEqual(str(polynomial_answers(TABLES, Union(query, query, query))[(2,)]), "3 s")
 
     def test_sums_that_are_zero_stay(self):
         marks = {"r": 0, "s": 0, "t": 0}
-        self.assertEqual(answers(TABLES, UNION, SmallNumbers(), marks), {(1,): 0, (2,): 0, (3,): 0})
+        self.assertEqual(answers(TABLES, UNION, Numbers(), marks), {(1,): 0, (2,): 0, (3,): 0})
         marks = {"r": None, "s": 4, "t": 1}
-        self.assertEqual(answers(TABLES, UNION, SmallCheapest(), marks), {(1,): None, (2,): 8, (3,): 5})
+        self.assertEqual(answers(TABLES, UNION, Cheapest(), marks), {(1,): None, (2,): 8, (3,): 5})
         marks = {"r": False, "s": True, "t": False}
-        same(self, answers(TABLES, UNION, SmallHolds(), marks), {(1,): False, (2,): True, (3,): False})
+        same(self, answers(TABLES, UNION, Holds(), marks), {(1,): False, (2,): True, (3,): False})
 
     def test_no_answer_rows(self):
         for tables in [TABLES, Tables([])]:
             for text in ["x <- node x", "x <- edge x", "<- edge x x y"]:
                 marks = {name: 1 for name in tables.names}
-                self.assertEqual(answers(tables, Union.read(text), SmallNumbers(), marks), {})
+                self.assertEqual(answers(tables, Union.read(text), Numbers(), marks), {})
                 self.assertEqual(polynomial_answers(tables, Union.read(text)), {})
         marks = {"r": 1, "s": 1, "t": 1}
-        self.assertEqual(answers(TABLES, Union.read("x <- edge x x"), SmallNumbers(), marks), {(2,): 1})
+        self.assertEqual(answers(TABLES, Union.read("x <- edge x x"), Numbers(), marks), {(2,): 1})
 
     def test_answer_rows_ascend_across_queries(self):
         tables = Tables([("a", "a", (5,)), ("b", "a", (-5,)), ("c", "b", (0,)), ("d", "b", (-7,)), ("e", "b", (50,))])
         union = Union.read("x <- a x\nx <- b x")
         heads = [(-7,), (-5,), (0,), (5,), (50,)]
         self.assertEqual(list(polynomial_answers(tables, union)), heads)
-        self.assertEqual(list(answers(tables, union, SmallNumbers(), {name: 1 for name in "edcba"})), heads)
+        self.assertEqual(list(answers(tables, union, Numbers(), {name: 1 for name in "edcba"})), heads)
 
 
 class WrongMarks(unittest.TestCase):
@@ -154,29 +156,32 @@ class WrongMarks(unittest.TestCase):
 
     def test_no_dict(self):
         for value in [value for value in no_names() if not isinstance(value, dict)]:
-            self.assertIsNone(self.name_of(value, SmallNumbers()))
-            self.assertIsNone(self.name_of(value, SmallNumbers(), Tables([])))
-        self.assertIsNone(self.name_of([("r", 1), ("s", 1), ("t", 1)], SmallNumbers()))
+            self.assertIsNone(self.name_of(value, Numbers()))
+            self.assertIsNone(self.name_of(value, Numbers(), Tables([])))
+        self.assertIsNone(self.name_of([("r", 1), ("s", 1), ("t", 1)], Numbers()))
 
     def test_the_least_name_that_is_missing(self):
-        self.assertEqual(self.name_of({}, SmallNumbers()), "r")
-        self.assertEqual(self.name_of({"t": 1, "r": 1}, SmallNumbers()), "s")
-        self.assertEqual(self.name_of({"s": 1, "r": 1}, SmallNumbers()), "t")
+        self.assertEqual(self.name_of({}, Numbers()), "r")
+        self.assertEqual(self.name_of({"t": 1, "r": 1}, Numbers()), "s")
+        self.assertEqual(self.name_of({"s": 1, "r": 1}, Numbers()), "t")
 
     def test_a_missing_name_has_not_the_mark_none(self):
-        for measure in [SmallCheapest(), SmallWhich()]:
+        for measure in [Cheapest(), Which()]:
             self.assertEqual(self.name_of({"r": None, "t": None}, measure), "s")
             found = answers(TABLES, UNION, measure, {"r": None, "s": None, "t": None})
             self.assertEqual(list(found.values()), [None] * 3)
 
     def test_the_least_name_with_a_wrong_mark(self):
         wrong = {
-            SmallNumbers: [None, True, False, -1, "1", (1,), [], {}, UNION, TABLES],
-            SmallHolds: [None, 0, 1, "True", (), []],
-            SmallCheapest: [True, False, -1, "", (), [None]],
-            SmallWhich: [(None,), ("a", "a"), ("b", "a"), ["a"], "a", True, ("A",)],
-            SmallWhy: [None, ("a",), (("b", "a"),), (("b",), ("a",)), [()], ((), ())],
-            SmallPolynomials: [None, ((),), (((), 0),), (((), True),), ((("a",), 1), ((), 1)), ((("b", "a"), 1),)],
+            Numbers: [None, True, False, -1, "1", (1,), [], {}, UNION, TABLES],
+            Holds: [None, 0, 1, "True", (), []],
+            Cheapest: [True, False, -1, "", (), [None]],
+            Which: [(None,), ("a", "a"), ("b", "a"), ["a"], "a", True, ("A",)],
+            Why: [None, ("a",), (("b", "a"),), (("b",), ("a",)), [()], ((), ()), (("a", "a"),)],
+            Bags: [None, ("a",), (("b", "a"),), (("b",), ("a",)), [()], ((), ()), (((), 1),)],
+            Dearest: [True, False, -1, "", (), [None]],
+            Counted: [None, ((),), (((), 0),), (((), True),), ((("a",), 1), ((), 1)), ((("a", "a"), 1),)],
+            Polynomials: [None, ((),), (((), 0),), (((), True),), ((("a",), 1), ((), 1)), ((("b", "a"), 1),)],
         }
         for kind, choices in MARKS:
             right = choices[-1]
@@ -188,15 +193,15 @@ class WrongMarks(unittest.TestCase):
 
     def test_rows_that_are_not_used_need_marks_too(self):
         tables = Tables([*TABLES.rows, ("a", "other", (1,))])
-        self.assertEqual(self.name_of({"r": 1, "s": 1, "t": 1}, SmallNumbers(), tables), "a")
-        self.assertEqual(self.name_of({}, SmallNumbers(), tables, Union.read("<- none x")), "a")
+        self.assertEqual(self.name_of({"r": 1, "s": 1, "t": 1}, Numbers(), tables), "a")
+        self.assertEqual(self.name_of({}, Numbers(), tables, Union.read("<- none x")), "a")
 
     def test_other_keys_mean_nothing(self):
         marks = {"r": 1, "s": 2, "t": 3}
         more = {"q": -1, "zz": None, 5: "no mark", None: (), (1,): [], True: True, **marks}
-        told = answers(TABLES, UNION, SmallNumbers(), marks)
-        self.assertEqual(answers(TABLES, UNION, SmallNumbers(), more), told)
-        self.assertEqual(answers(Tables([]), UNION, SmallNumbers(), more), {})
+        told = answers(TABLES, UNION, Numbers(), marks)
+        self.assertEqual(answers(TABLES, UNION, Numbers(), more), told)
+        self.assertEqual(answers(Tables([]), UNION, Numbers(), more), {})
         self.assertEqual(len(more), 9)
 
 
@@ -204,15 +209,15 @@ class Arguments(unittest.TestCase):
     def test_the_order_of_the_keys_means_nothing(self):
         for names in ["rst", "tsr", "srt"]:
             marks = {name: "rst".index(name) + 1 for name in names}
-            found = answers(TABLES, UNION, SmallNumbers(), marks)
+            found = answers(TABLES, UNION, Numbers(), marks)
             self.assertEqual(list(found.items()), [((1,), 2), ((2,), 4), ((3,), 6)])
 
     def test_returned_dicts_are_new(self):
         marks = {"r": 1, "s": 2, "t": 3}
-        first = answers(TABLES, UNION, SmallNumbers(), marks)
+        first = answers(TABLES, UNION, Numbers(), marks)
         first[(9,)] = 9
         del first[(1,)]
-        self.assertEqual(answers(TABLES, UNION, SmallNumbers(), marks), {(1,): 2, (2,): 4, (3,): 6})
+        self.assertEqual(answers(TABLES, UNION, Numbers(), marks), {(1,): 2, (2,): 4, (3,): 6})
         second = polynomial_answers(TABLES, UNION)
         second.clear()
         self.assertEqual(len(polynomial_answers(TABLES, UNION)), 3)
@@ -220,7 +225,7 @@ class Arguments(unittest.TestCase):
 
     def test_keywords(self):
         marks = {"r": 1, "s": 2, "t": 3}
-        self.assertEqual(answers(marks=marks, measure=SmallNumbers(), union=UNION, tables=TABLES)[(3,)], 6)
+        self.assertEqual(answers(marks=marks, measure=Numbers(), union=UNION, tables=TABLES)[(3,)], 6)
         self.assertEqual(list(polynomial_answers(union=UNION, tables=TABLES)), [(1,), (2,), (3,)])
 
 
@@ -236,7 +241,7 @@ class Work(unittest.TestCase):
 
     def test_each_product_of_two_monomials(self):
         marks = {"r": ((("a",), 1), (("b",), 2)), "s": ((("c",), 1), (("d",), 1)), "t": ((("e",), 3),)}
-        found = answers(TABLES, UNION, SmallPolynomials(), marks)[(1,)]
+        found = answers(TABLES, UNION, Polynomials(), marks)[(1,)]
         pairs = product(marks["r"], marks["s"])
         self.assertEqual(found, tuple(sorted((one + other, count * times) for (one, count), (other, times) in pairs)))
 
@@ -245,7 +250,7 @@ class Examples(unittest.TestCase):
     def test_of_the_document(self):
         marks = {"r": 1, "s": 2, "t": 0}
         self.assertEqual(
-            [list(ways(TABLES, UNION.queries[0])), answers(TABLES, UNION, SmallNumbers(), marks),
+            [list(ways(TABLES, UNION.queries[0])), answers(TABLES, UNION, Numbers(), marks),
              str(polynomial_answers(TABLES, UNION)[(1,)])],
             [[(1, 2, 2), (2, 2, 2), (3, 2, 2)], {(1,): 2, (2,): 4, (3,): 0}, "r s"])
 

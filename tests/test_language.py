@@ -10,6 +10,7 @@ from pathlib import Path
 PACKAGE = Path(__file__).resolve().parent.parent / "marktables"
 FILES = sorted(PACKAGE.glob("*.py"))
 
+MEASURE = ["label", "zero", "one", "plus", "times", "at_most", "is_mark", "named", "__eq__"]
 # For each file of the interface that is written: its functions, and its classes with the methods listed for them.
 INTERFACE = {
     "queries": {
@@ -29,6 +30,11 @@ INTERFACE = {
         "ways": None, "answers": None, "polynomial_answers": None,
     },
     "reading": {"after": None, "reasons": None, "least_deletions": None, "difference": None},
+    "measures": {name: MEASURE for name in [
+        "Measure", "Holds", "Which", "Why", "Bags", "Cheapest", "Dearest", "Counted", "Polynomials", "Numbers"]},
+    "groupings": {"groupings": None},
+    "within": {"within": None, "witness_rows": None, "check_within": None, "equal": None},
+    "apart": {"apart": None, "check_apart": None},
 }
 # The arguments as the interface names them.
 ARGUMENTS = {
@@ -47,8 +53,22 @@ ARGUMENTS = {
         "after": "polynomial names", "reasons": "polynomial", "least_deletions": "polynomial",
         "difference": "tables union names rows",
     },
+    "groupings": {"groupings": "query"},
+    "within": {
+        "within": "one other measure", "witness_rows": "one measure answer", "check_within": "one other measure answer",
+        "equal": "one other measure",
+    },
+    "apart": {"apart": "one other", "check_apart": "one other value"},
 }
-GENERATORS = ["maps", "ways"]
+# The arguments of methods.
+METHOD_ARGUMENTS = {
+    "queries": {"Query": {"image": "names"}},
+    "polynomials": {"Polynomial": {"__call__": "measure marks"}},
+    "measures": {name: {
+        "zero": "", "one": "", "plus": "a b", "times": "a b", "at_most": "a b", "is_mark": "value", "named": "name",
+    } for name in INTERFACE["measures"]},
+}
+GENERATORS = ["maps", "ways", "groupings"]
 LIBRARY = {
     "heapq": ["heappush", "heappop", "heapify", "heapreplace", "heappushpop"],
     "math": ["gcd", "lcm", "isqrt", "comb", "perm", "factorial"],
@@ -59,11 +79,10 @@ LIBRARY = {
 NOT_USED = (
     ast.AsyncFunctionDef, ast.Await, ast.Import, ast.Div, ast.MatMult, ast.TryStar, ast.Global, ast.GeneratorExp)
 NO_NAMES = ["open", "input", "print", "id", "hash", "filter", "vars", "eval", "exec"]
-# Methods of builtin values, and the methods of measures.
+# Methods of builtin values.
 METHODS = """append clear copy count endswith extend find get index insert isalnum isalpha isdigit islower isspace
     isupper items join keys ljust lower lstrip partition pop remove replace reverse rfind rjust rpartition rsplit rstrip
-    setdefault split splitlines startswith strip update upper values zfill bit_length isascii add discard
-    zero one plus times at_most is_mark named""".split()
+    setdefault split splitlines startswith strip update upper values zfill bit_length isascii add discard""".split()
 
 
 def tree_of(path):
@@ -128,7 +147,7 @@ class Files(unittest.TestCase):
                 if isinstance(node, ast.Name) and isinstance(node.ctx, ast.Store):
                     bound.append(node.id)
             bound.extend(defined(tree_of(path)))
-            self.assertEqual([name for name in bound if hasattr(builtins, name) or name == "sys"], [], path.name)
+            self.assertEqual([name for name in bound if name != "_" and (hasattr(builtins, name) or name == "sys")], [], path.name)
 
     def test_parameters_and_variables_are_not_named_like_imports_and_classes(self):
         for path in FILES:
@@ -184,8 +203,14 @@ class Interface(unittest.TestCase):
             for name, arguments in names.items():
                 self.assertEqual(list(signature(getattr(module, name)).parameters), arguments.split(), name)
                 self.assertEqual(getattr(module, name).__module__, f"marktables.{file}")
-        call = import_module("marktables.polynomials").Polynomial.__call__
-        self.assertEqual(list(signature(call).parameters), ["self", "measure", "marks"])
+
+    def test_arguments_of_methods(self):
+        for file, classes in METHOD_ARGUMENTS.items():
+            for name, methods in classes.items():
+                kind = getattr(import_module(f"marktables.{file}"), name)
+                for method, arguments in methods.items():
+                    found = list(signature(getattr(kind, method)).parameters)
+                    self.assertEqual(found, ["self", *arguments.split()], (name, method))
 
     def test_generators(self):
         for file in INTERFACE:

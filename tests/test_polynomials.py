@@ -2,10 +2,11 @@ import unittest
 from random import Random
 
 from marktables.errors import InvalidMarks, InvalidTerms, NegativeTerm
+from marktables.measures import Cheapest, Holds, Numbers, Polynomials, Which, Why
 from marktables.names import is_monomial
 from marktables.polynomials import Polynomial
-from small_measures import (
-    MARKS, SmallCheapest, SmallHolds, SmallNumbers, SmallPolynomials, SmallWhich, SmallWhy)
+from measure_marks import MARKS
+from small_measures import SmallNumbers
 from values import nested, no_names
 
 GREAT = 10 ** 29 + 12345
@@ -225,18 +226,18 @@ class Calls(unittest.TestCase):
             self.assertLess(measure.asked, 400)
             marks = {"r": ((("a",), 2), (("b",), 1))}
             self.assertEqual(
-                Polynomial([(("r",), many)])(SmallPolynomials(), marks), ((("a",), 2 * many), (("b",), many)))
-            self.assertEqual(Polynomial([(("r",), many)])(SmallCheapest(), {"r": 9}), 9)
-            self.assertIs(Polynomial([(("r",), many)])(SmallHolds(), {"r": True}), True)
-            self.assertEqual(Polynomial([(("r",), many)])(SmallWhy(), {"r": (("a",), ("b",))}), (("a",), ("b",)))
+                Polynomial([(("r",), many)])(Polynomials(), marks), ((("a",), 2 * many), (("b",), many)))
+            self.assertEqual(Polynomial([(("r",), many)])(Cheapest(), {"r": 9}), 9)
+            self.assertIs(Polynomial([(("r",), many)])(Holds(), {"r": True}), True)
+            self.assertEqual(Polynomial([(("r",), many)])(Why(), {"r": (("a",), ("b",))}), (("a",), ("b",)))
 
     def test_other_keys_mean_nothing(self):
         marks = {"s": -1, 5: None, None: 1, ("r",): [], "r": 4}
-        self.assertEqual(Polynomial([(("r", "r"), 2)])(SmallNumbers(), marks), 32)
+        self.assertEqual(Polynomial([(("r", "r"), 2)])(Numbers(), marks), 32)
         self.assertEqual(len(marks), 5)
 
     def test_keywords(self):
-        self.assertEqual(Polynomial([(("r",), 2)])(marks={"r": 3}, measure=SmallNumbers()), 6)
+        self.assertEqual(Polynomial([(("r",), 2)])(marks={"r": 3}, measure=Numbers()), 6)
 
 
 class WrongCalls(unittest.TestCase):
@@ -248,36 +249,36 @@ class WrongCalls(unittest.TestCase):
     def test_no_dict(self):
         for value in [value for value in no_names() if not isinstance(value, dict)]:
             for terms in [[], [((), 3)], [((), -3)], [(("r",), 1)], [(("r",), -1)]]:
-                self.assertIsNone(self.name_of(Polynomial(terms), SmallNumbers(), value))
+                self.assertIsNone(self.name_of(Polynomial(terms), Numbers(), value))
 
     def test_missing_and_wrong_marks(self):
         made = Polynomial([(("s",), 1), (("t", "t"), 2), (("r", "t"), 1)])
-        self.assertEqual(self.name_of(made, SmallNumbers(), {}), "r")
-        self.assertEqual(self.name_of(made, SmallNumbers(), {"r": 1, "t": 1}), "s")
-        self.assertEqual(self.name_of(made, SmallNumbers(), {"r": 1, "s": 1}), "t")
+        self.assertEqual(self.name_of(made, Numbers(), {}), "r")
+        self.assertEqual(self.name_of(made, Numbers(), {"r": 1, "t": 1}), "s")
+        self.assertEqual(self.name_of(made, Numbers(), {"r": 1, "s": 1}), "t")
         for value in [None, True, -1, "1", (), [1], {}, made]:
-            self.assertEqual(self.name_of(made, SmallNumbers(), {"r": 1, "s": value, "t": value}), "s")
-            self.assertEqual(self.name_of(made, SmallNumbers(), {"r": value}), "r")
-            self.assertEqual(self.name_of(made, SmallNumbers(), {"t": value, "s": 1, "r": 1}), "t")
+            self.assertEqual(self.name_of(made, Numbers(), {"r": 1, "s": value, "t": value}), "s")
+            self.assertEqual(self.name_of(made, Numbers(), {"r": value}), "r")
+            self.assertEqual(self.name_of(made, Numbers(), {"t": value, "s": 1, "r": 1}), "t")
         for value in [0, 1, None]:
-            self.assertEqual(self.name_of(made, SmallHolds(), {"r": True, "s": value, "t": True}), "s")
+            self.assertEqual(self.name_of(made, Holds(), {"r": True, "s": value, "t": True}), "s")
 
     def test_the_least_of_many_names(self):
         names = sorted(left + right for left in "klmnop" for right in "klmnop")
         made = Polynomial([((name,), 1) for name in names])
         for k, name in enumerate(names):
             marks = {other: 1 for other in names[:k]}
-            self.assertEqual(self.name_of(made, SmallNumbers(), marks), name)
+            self.assertEqual(self.name_of(made, Numbers(), marks), name)
 
     def test_a_missing_name_has_not_the_mark_none(self):
         made = Polynomial([(("r", "s"), 1)])
-        self.assertEqual(self.name_of(made, SmallCheapest(), {"s": 1}), "r")
-        self.assertEqual(self.name_of(made, SmallWhich(), {"r": None}), "s")
-        self.assertIsNone(made(SmallWhich(), {"r": None, "s": ()}))
+        self.assertEqual(self.name_of(made, Cheapest(), {"s": 1}), "r")
+        self.assertEqual(self.name_of(made, Which(), {"r": None}), "s")
+        self.assertIsNone(made(Which(), {"r": None, "s": ()}))
 
     def test_names_of_terms_that_are_0_are_not_asked_for(self):
         made = Polynomial([(("r",), 1), (("q",), 1), (("q",), -1), (("p",), 0)])
-        self.assertEqual(made(SmallNumbers(), {"r": 2}), 2)
+        self.assertEqual(made(Numbers(), {"r": 2}), 2)
 
     def test_negative_terms(self):
         cases = [
@@ -288,15 +289,15 @@ class WrongCalls(unittest.TestCase):
         marks = {"q": 0, "r": 0, "s": 0}
         for terms, least in cases:
             with self.assertRaises(NegativeTerm) as caught:
-                Polynomial(terms)(SmallNumbers(), marks)
+                Polynomial(terms)(Numbers(), marks)
             self.assertEqual(caught.exception.monomial, least)
             self.assertIs(type(caught.exception.monomial), tuple)
 
     def test_wrong_marks_come_before_negative_terms(self):
         made = Polynomial([((), -1), (("r",), -1), (("s",), 1)])
-        self.assertEqual(self.name_of(made, SmallNumbers(), {"r": 1}), "s")
-        self.assertEqual(self.name_of(made, SmallNumbers(), {"r": -1, "s": 1}), "r")
-        self.assertIsNone(self.name_of(made, SmallNumbers(), None))
+        self.assertEqual(self.name_of(made, Numbers(), {"r": 1}), "s")
+        self.assertEqual(self.name_of(made, Numbers(), {"r": -1, "s": 1}), "r")
+        self.assertIsNone(self.name_of(made, Numbers(), None))
 
 
 class Examples(unittest.TestCase):
@@ -304,8 +305,8 @@ class Examples(unittest.TestCase):
         one = Polynomial([(("r", "s"), 2), ((), 1)])
         other = Polynomial([(("r",), 1)])
         self.assertEqual(
-            [str(one * other - other), other(SmallCheapest(), {"r": 4}),
-             (one + other)(SmallCheapest(), {"r": 4, "s": 1})],
+            [str(one * other - other), other(Cheapest(), {"r": 4}),
+             (one + other)(Cheapest(), {"r": 4, "s": 1})],
             ["2 r r s", 4, 0])
 
 

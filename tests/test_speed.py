@@ -6,13 +6,12 @@ from random import Random
 from time import perf_counter
 
 from marktables.maps import first_map, maps
+from marktables.measures import Bags, Cheapest, Counted, Dearest, Holds, Numbers, Polynomials, Which, Why
 from marktables.polynomials import Polynomial
 from marktables.queries import Query
 from marktables.reading import after, difference, least_deletions, reasons
 from marktables.tables import Tables, answers, polynomial_answers, ways
 from marktables.unions import Union
-from small_measures import (
-    SmallCheapest, SmallHolds, SmallNumbers, SmallPolynomials, SmallWhich, SmallWhy)
 
 SECONDS = 8
 NAMES = "efghij"
@@ -74,12 +73,15 @@ class Speed(unittest.TestCase):
     def test_answers_of_more_than_20000_ways(self):
         three_names = {name: (name, name + "a", name + "b") for name in NAMES}
         for measure, marks in [
-                (SmallNumbers(), {name: 10 ** 20 for name in NAMES}),
-                (SmallHolds(), {name: True for name in NAMES}),
-                (SmallCheapest(), {name: 7 for name in NAMES}),
-                (SmallWhich(), three_names),
-                (SmallWhy(), {name: (three_names[name],) for name in NAMES}),
-                (SmallPolynomials(), {name: ((three_names[name], 10 ** 20),) for name in NAMES})]:
+                (Numbers(), {name: 10 ** 20 for name in NAMES}),
+                (Holds(), {name: True for name in NAMES}),
+                (Cheapest(), {name: 7 for name in NAMES}),
+                (Which(), three_names),
+                (Why(), {name: (three_names[name],) for name in NAMES}),
+                (Bags(), {name: (three_names[name],) for name in NAMES}),
+                (Dearest(), {name: 10 ** 20 for name in NAMES}),
+                (Counted(), {name: ((three_names[name], 10 ** 20),) for name in NAMES}),
+                (Polynomials(), {name: ((three_names[name], 10 ** 20),) for name in NAMES})]:
             for head, count in [("", 1), ("uvx", 216)]:
                 self.assertEqual(len(self.timed(lambda: answers(TABLES, three(head), measure, marks))), count)
 
@@ -88,7 +90,7 @@ class Speed(unittest.TestCase):
         atoms = [("a", ("u",)), ("a", ("v",)), ("a", ("x",)), ("b", ("y",)), ("b", ("z",))]
         union = Union(Query((), [*atoms, ("b", ("z",))]), Query((), [*atoms, ("a", ("x",))]))
         marks = two_monomials("rstuvw")
-        found = self.timed(lambda: answers(tables, union, SmallPolynomials(), marks))
+        found = self.timed(lambda: answers(tables, union, Polynomials(), marks))
         self.assertGreater(len(found[()]), 5000)
         self.assertEqual(sum(count for _, count in found[()]), 2 * 3 ** 5 * 3 ** 6)
 
@@ -103,17 +105,17 @@ class Speed(unittest.TestCase):
         made = self.timed(lambda: one * other)
         self.assertEqual(len(made.terms), 141 * 141)
         marks = {word: 1 for word in words}
-        found = self.timed(lambda: made(SmallNumbers(), marks))
-        self.assertEqual(found, one(SmallNumbers(), marks) * other(SmallNumbers(), marks))
+        found = self.timed(lambda: made(Numbers(), marks))
+        self.assertEqual(found, one(Numbers(), marks) * other(Numbers(), marks))
 
     def test_calls(self):
         random = Random(2)
         many = long_polynomial(random, "klmnopqr", 30, 2000)
-        self.timed(lambda: many(SmallNumbers(), {name: 10 ** 9 for name in "klmnopqr"}))
-        self.timed(lambda: many(SmallCheapest(), {name: 10 ** 9 for name in "klmnopqr"}))
+        self.timed(lambda: many(Numbers(), {name: 10 ** 9 for name in "klmnopqr"}))
+        self.timed(lambda: many(Cheapest(), {name: 10 ** 9 for name in "klmnopqr"}))
         few = long_polynomial(random, "klmnopqr", 4, 60)
         marks = two_monomials("klmnopqr")
-        found = self.timed(lambda: few(SmallPolynomials(), marks))
+        found = self.timed(lambda: few(Polynomials(), marks))
         self.assertEqual(sum(count for _, count in found), 81 * (60 * 10 ** 29 + 59 * 30))
 
     def test_reading(self):

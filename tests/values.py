@@ -1,10 +1,10 @@
 """Values of every kind that may be passed where an error is described, for several tests."""
 
+from marktables.measures import Numbers, Why
 from marktables.polynomials import Polynomial
 from marktables.queries import Query
 from marktables.tables import Tables
 from marktables.unions import Union
-from small_measures import SmallNumbers
 
 
 def nested(depth):
@@ -22,5 +22,5 @@ def no_names():
     return [
         None, True, False, 0, 1, -3, 10 ** 999, "", "abcdefghi", "A", "aB", "a1", "a b", " a", "a ", "a\n", "_", "-",
         (), ("x",), [], ["x"], {}, {"x": 1}, query, Union(query), nested(50), [("x",)] * 2000,
-        tables, Tables([]), polynomial, Polynomial([]), SmallNumbers(), [tables, {"x": [polynomial, query]}],
+        tables, Tables([]), polynomial, Polynomial([]), Numbers(), Why(), [tables, {"x": [polynomial, query]}],
     ]
