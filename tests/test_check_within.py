@@ -255,10 +255,11 @@ class Entries(unittest.TestCase):
         self.check(one, other, Counted(), paper, 0)
 
     def test_a_name_that_is_used_twice(self):
-        one, other = union_of("<- a x y"), union_of("<- a x y")
-        paper = within(one, other, Counted())[1]
-        paper[0][0] = (("x", "x"), 0, ("x", "y"), ("x", "x"))
-        self.check(one, other, Counted(), paper, 0)
+        one, other = union_of("<- a x y"), union_of("<- a x y\n<- a x y")
+        last = (("x", "y"), 1, ("x", "y"), ("x", "y"))
+        for measure in [Counted(), Polynomials()]:
+            self.check(one, other, measure, [[(("x", "x"), 0, ("x", "x"), ("x",)), last]], None)
+            self.check(one, other, measure, [[(("x", "x"), 0, ("x", "y"), ("x", "x")), last]], 0)
 
     def test_as_told_for_changed_papers(self):
         random = Random(33)

@@ -35,6 +35,11 @@ INTERFACE = {
     "groupings": {"groupings": None},
     "within": {"within": None, "witness_rows": None, "check_within": None, "equal": None},
     "apart": {"apart": None, "check_apart": None},
+    "order": {"implies": None, "parting": None, "telling": None},
+    "papers": {"carried": None, "converted": None, "joined_papers": None},
+    "least": {"core": None, "check_core": None, "least": None},
+    "desk": {"Desk": [
+        "__init__", "tables", "titles", "log", "put", "take", "watch", "drop", "answer", "news", "back", "again", "attempt"]},
 }
 # The arguments as the interface names them.
 ARGUMENTS = {
@@ -59,6 +64,13 @@ ARGUMENTS = {
         "equal": "one other measure",
     },
     "apart": {"apart": "one other", "check_apart": "one other value"},
+    "order": {"implies": "first second", "parting": "first second table places", "telling": "one other"},
+    "papers": {
+        "carried": "one measure paper number way", "converted": "first second paper",
+        "joined_papers": "one middle other measure first second",
+    },
+    "least": {"core": "query", "check_core": "query value", "least": "union measure"},
+    "desk": {"Desk": "rows"},
 }
 # The arguments of methods.
 METHOD_ARGUMENTS = {
@@ -67,6 +79,10 @@ METHOD_ARGUMENTS = {
     "measures": {name: {
         "zero": "", "one": "", "plus": "a b", "times": "a b", "at_most": "a b", "is_mark": "value", "named": "name",
     } for name in INTERFACE["measures"]},
+    "desk": {"Desk": {
+        "put": "row", "take": "name", "watch": "title union", "drop": "title", "answer": "title", "news": "title",
+        "back": "", "again": "", "attempt": "deeds",
+    }},
 }
 GENERATORS = ["maps", "ways", "groupings"]
 LIBRARY = {
@@ -137,6 +153,29 @@ class Files(unittest.TestCase):
                 if isinstance(node, ast.Name):
                     self.assertNotIn(node.id, NO_NAMES, path.name)
 
+    def test_generators_are_iterated_at_once(self):
+        functions = [node for path in FILES for node in ast.walk(tree_of(path)) if isinstance(node, ast.FunctionDef)]
+        yielding = [node.name for node in functions
+                    if any(isinstance(part, (ast.Yield, ast.YieldFrom)) for part in ast.walk(node))]
+        names = [node.name for node in functions]
+        self.assertLessEqual(set(GENERATORS), set(yielding))
+        for name in yielding:
+            self.assertEqual(names.count(name), 1)
+        for path in FILES:
+            tree = tree_of(path)
+            right = set()
+            for node in ast.walk(tree):
+                if isinstance(node, (ast.For, ast.comprehension)):
+                    right.add(id(node.iter))
+                if isinstance(node, ast.YieldFrom):
+                    right.add(id(node.value))
+                if isinstance(node, ast.Call) and isinstance(node.func, ast.Name) and node.func.id in ("list", "tuple"):
+                    right.update(id(part) for part in node.args)
+            for node in ast.walk(tree):
+                if isinstance(node, ast.Call) and isinstance(node.func, ast.Name) and node.func.id in yielding:
+                    self.assertIn(id(node), right, f"{path.name} {node.lineno}")
+                    parts = [part for part in node.args if not isinstance(part, (ast.Name, ast.Attribute, ast.Tuple))]
+                    self.assertEqual(parts, [], f"{path.name} {node.lineno}")
 
     def test_bound_names_are_no_builtins(self):
         for path in FILES:

@@ -5,8 +5,12 @@ from itertools import product
 from time import perf_counter
 
 from marktables.apart import apart, check_apart
+from marktables.desk import Desk
 from marktables.groupings import groupings
-from marktables.measures import Numbers
+from marktables.least import check_core, core, least
+from marktables.measures import Bags, Counted, Holds, Numbers, Polynomials, Why
+from marktables.order import telling
+from marktables.papers import carried, converted, joined_papers
 from marktables.queries import Query
 from marktables.unions import Union
 from marktables.within import check_within, equal, within, witness_rows
@@ -73,6 +77,34 @@ class Speed(unittest.TestCase):
     def test_two_places(self):
         for one, other in product(wide_unions(), repeat=2):
             self.check(one, other)
+
+    def test_papers(self):
+        first, *others = unions()
+        for one in [first, others[2]]:
+            for measure in TELLING:
+                paper = within(one, first, measure)[1] if within(one, first, measure)[0] == "yes" else []
+                if paper:
+                    self.timed(lambda: joined_papers(one, first, first, measure, paper, within(first, first, measure)[1]))
+                    self.timed(lambda: converted(measure, Holds(), paper))
+                    self.timed(lambda: carried(one, measure, paper, 0, tuple(range(len(one.queries[0].variables)))))
+            self.timed(lambda: telling(one, first))
+
+    def test_least_unions(self):
+        for union in [*unions(), *wide_unions()]:
+            for query in union.queries:
+                found = self.timed(lambda: core(query))
+                self.assertIs(self.timed(lambda: check_core(query, found)), True)
+            for measure in [Holds(), Why(), Bags(), Counted(), Polynomials()]:
+                found = self.timed(lambda: least(union, measure))
+                self.assertIs(equal(union, found, measure), True)
+
+    def test_a_desk_with_more_than_20000_ways(self):
+        desk = Desk([("rstuvw"[k], "a", (k,)) for k in range(6)])
+        desk.watch("many", unions()[0])
+        self.assertEqual(len(self.timed(lambda: desk.news("many"))), 1)
+        desk.take("r")
+        self.timed(lambda: desk.answer("many"))
+        self.assertEqual(len(self.timed(lambda: desk.news("many"))), 1)
 
     def test_groupings(self):
         self.assertEqual(len(self.timed(lambda: list(groupings(letters("uvxyzz"))))), 52)
