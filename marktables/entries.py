@@ -72,7 +72,7 @@ def _is_single(query, other, label, value):
 
 def _found_cover(query, other):
     """A list of maps that together meet every atom, each one that no earlier one meets, or None."""
-    missing = {k: True for k, _ in enumerate(_own_counts(query))}
+    missing = {k: True for k in range(len(_own_counts(query)))}
     chosen = []
     for j, value, met in _maps_into(query, other):
         fresh = [k for k in missing if met[k] > 0]
@@ -137,7 +137,7 @@ def _are_parts(query, other, value, length):
 
 def _totals(query, other, parts):
     """For each distinct atom the sum of the counts of the maps, each taken as often as its times say."""
-    totals = [0 for _ in _own_counts(query)]
+    totals = [0] * len(_own_counts(query))
     for j, value, times in parts:
         met = atom_counts(other.queries[j], query, value)
         totals = [total + times * many for total, many in zip(totals, met)]

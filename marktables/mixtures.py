@@ -17,7 +17,7 @@ def balanced(vectors, width):
     """
     count = len(vectors)
     rows = [[*[vector[k] for vector in vectors], *_unit(k, width)] for k in range(width)]
-    gain = [*[1 for _ in vectors], *[0 for _ in range(width)]]
+    gain = [1] * count + [0] * width
     basis = [count + k for k in range(width)]
     while True:
         entering = _first_positive(gain)
